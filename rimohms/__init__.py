@@ -1,0 +1,1 @@
+"""Rimohms: nets of resistors in a disc, seen from the rim."""

@@ -1,0 +1,227 @@
+"""Drawings for the tests, and reckonings that use nothing of the program."""
+
+import random
+from fractions import Fraction
+from itertools import permutations
+
+ONE = (1, 1)
+
+
+def ones(count):
+    return (ONE,) * count
+
+
+STAR = (3, ((0,), (2,), (4,), (1, 3, 5)), ones(3))
+SERIES = (2, ((0,), (3,), (1, 2)), ((1, 1), (1, 2)))
+
+# name: net. The faces of some of them are told in test_netmap.
+DRAWINGS = {
+    "star": STAR,
+    "series": SERIES,
+    "one rim node, no edges": (1, ((),), ()),
+    "seven rim nodes, no edges": (7, ((),) * 7, ()),
+    "triangle": (3, ((0, 5), (2, 1), (4, 3)), ((1, 1), (2, 1), (3, 1))),
+    "triple": (2, ((0, 2, 4), (5, 3, 1)), ((1, 2), (2, 3), (5, 1))),
+    "loop at the rim": (1, ((0, 1),), ((7, 2),)),
+    "loop the other way": (1, ((1, 0),), ((7, 2),)),
+    "two loops side by side": (1, ((0, 1, 2, 3),), ones(2)),
+    "loop in a loop": (1, ((0, 2, 3, 1),), ones(2)),
+    "loop at an inner node": (2, ((0,), (3,), (1, 4, 5, 2)), ((1, 1), (1, 2), (9, 1))),
+    "loop around a twig": (1, ((0, 2, 1), (3,)), ones(2)),
+    "twigs": (2, ((0, 2, 4), (), (1,), (3, 6), (5,), (7,)), ((1, 1), (2, 1), (3, 1), (1, 4))),
+    "one dart at a rim node": (4, ((0,), (), (2, 1), (3,)), ((2, 3), (3, 5))),
+    "two inner nodes twice": (2, ((0,), (7,), (1, 4, 2), (3, 5, 6)), ((1, 1), (1, 2), (1, 3), (1, 4))),
+    "wheel": (
+        4,
+        ((0,), (2,), (4,), (6,), (1, 8, 15), (3, 10, 9), (5, 12, 11), (7, 14, 13)),
+        ((1, 1), (1, 2), (1, 3), (1, 4), (2, 1), (3, 1), (4, 1), (5, 1)),
+    ),
+}
+
+
+def with_turn(net, node, turn):
+    """The net with another turn of a node."""
+    rim, turns, amounts = net
+    return (rim, turns[: node - 1] + (tuple(turn),) + turns[node:], amounts)
+
+
+def home_of(net):
+    return {dart: node for node, turn in enumerate(net[1], start=1) for dart in turn}
+
+
+def chain_net(edges):
+    """Rim node 1 joined with rim node 2 by a row of edges of the amount 1."""
+    turns = [(0,), (2 * edges - 1,)]
+    turns += [(2 * k - 1, 2 * k) for k in range(1, edges)]
+    return (2, tuple(turns), ones(edges))
+
+
+class Growing:
+    """A drawing that grows by edges within its faces, found by corners alone."""
+
+    def __init__(self, rim, seed):
+        self.rim = rim
+        self.turns = [[] for _ in range(rim)]
+        self.amounts = []
+        self.chance = random.Random(seed)
+
+    def corners(self):
+        """The corners (node, place), face by face: a dart put at this place of the turn goes into the face.
+
+        At a rim node there is a corner before the first dart and one behind the last dart.
+        """
+        where = {dart: (node, place) for node, turn in enumerate(self.turns) for place, dart in enumerate(turn)}
+        step = {}
+        for node, turn in enumerate(self.turns):
+            for place, dart in enumerate(turn):
+                far, at = where[dart ^ 1]
+                behind = at + 1
+                if far >= self.rim and behind == len(self.turns[far]):
+                    behind = 0
+                step[(node, place)] = (far, behind)
+            if node < self.rim:
+                # From the corner behind the last dart the face goes on along the circle, counterclockwise.
+                step[(node, len(turn))] = ((node - 1) % self.rim, 0)
+        return self.cycles(step)
+
+    @staticmethod
+    def cycles(step):
+        seen, faces = set(), []
+        for corner in step:
+            face = []
+            while corner not in seen:
+                seen.add(corner)
+                face.append(corner)
+                corner = step[corner]
+            if face:
+                faces.append(face)
+        return faces
+
+    def amount(self):
+        value = Fraction(self.chance.randint(1, 12), self.chance.randint(1, 9))
+        return (value.numerator, value.denominator)
+
+    def grow(self):
+        """One more edge: to a new inner node, between two corners of a face, or along an edge."""
+        first = 2 * len(self.amounts)
+        darts = [first, first + 1]
+        self.chance.shuffle(darts)
+        kind = self.chance.randrange(10)
+        face = self.chance.choice(self.corners())
+        one = self.chance.choice(face)
+        if kind < 3:
+            self.turns[one[0]].insert(one[1], darts[0])
+            self.turns.append([darts[1]])
+        elif kind < 5 and self.amounts:
+            self.split(self.chance.randrange(first), darts)
+        else:
+            self.join(one, self.chance.choice(face), darts)
+        self.amounts.append(self.amount())
+
+    def split(self, dart, darts):
+        """A new inner node on the edge of a dart."""
+        for turn in self.turns:
+            if dart in turn:
+                turn[turn.index(dart)] = darts[0]
+                break
+        self.turns.append([dart, darts[1]])
+
+    def join(self, one, other, darts):
+        """An edge between two corners of a face; the later place of one turn is filled first."""
+        for (node, place), dart in sorted(zip((one, other), darts), reverse=True):
+            self.turns[node].insert(place, dart)
+
+    def net(self):
+        turns = [tuple(turn) for turn in self.turns]
+        return (self.rim, tuple(turns), tuple(self.amounts))
+
+
+def grown(rim, edges, seed):
+    """A drawing with these many edges; the same one for the same numbers."""
+    growing = Growing(rim, seed)
+    for _ in range(edges):
+        growing.grow()
+    return growing.net()
+
+
+def crosses(net):
+    """True if edges cross, found by drawing inner nodes along an edge into the rim, until chords are left.
+
+    A chord is a pair of places on the circle, clockwise; chords cross if their places alternate.
+    The nodes must all be joined with the rim.
+    """
+    rim, turns, amounts = net
+    turns = [list(turn) for turn in turns]
+    inner = list(range(rim, len(turns)))
+    while inner:
+        home = {dart: node for node, turn in enumerate(turns) for dart in turn}
+        node = next(v for v in inner if any(home[dart ^ 1] < rim for dart in turns[v]))
+        dart = next(dart for dart in turns[node] if home[dart ^ 1] < rim)
+        at = turns[node].index(dart)
+        rest = turns[node][at + 1:] + turns[node][:at]
+        rim_turn = turns[home[dart ^ 1]]
+        place = rim_turn.index(dart ^ 1)
+        rim_turn[place:place + 1] = rest
+        turns[node] = []
+        inner.remove(node)
+    order = [dart for turn in turns[:rim] for dart in reversed(turn)]
+    spans = {}
+    for place, dart in enumerate(order):
+        spans.setdefault(dart // 2, []).append(place)
+    chords = [tuple(span) for span in spans.values()]
+    return any(a < c < b < d for a, b in chords for c, d in chords)
+
+
+def fractions_of(values):
+    return [Fraction(*value) for value in values]
+
+
+def pairs_of(values):
+    return [(value.numerator, value.denominator) for value in values]
+
+
+def laplacian(net):
+    """Rows of Fractions: the currents out of each node, for a voltage 1 at one node and 0 at the others."""
+    home = home_of(net)
+    size = len(net[1])
+    rows = [[Fraction(0)] * size for _ in range(size)]
+    for edge, amount in enumerate(net[2]):
+        i, j = home[2 * edge] - 1, home[2 * edge + 1] - 1
+        value = Fraction(*amount)
+        for at, to, sign in ((i, i, 1), (j, j, 1), (i, j, -1), (j, i, -1)):
+            rows[at][to] += sign * value
+    return rows
+
+
+def eliminated(rows, places):
+    """The rows after taking out places, each by elimination (Schur complement)."""
+    rows = [list(row) for row in rows]
+    size = len(rows)
+    for v in places:
+        for i in range(size):
+            if i != v and rows[i][v] != 0:
+                share = rows[i][v] / rows[v][v]
+                rows[i] = [a - share * b for a, b in zip(rows[i], rows[v])]
+    return rows
+
+
+def table_by_hand(net):
+    rim = net[0]
+    rows = eliminated(laplacian(net), range(rim, len(net[1])))
+    return tuple(tuple(pairs_of(row[:rim])) for row in rows[:rim])
+
+
+def determinant_by_orders(rows):
+    """The sum over all orders of the columns, for rows of Fractions."""
+    value = Fraction(0)
+    for order in permutations(range(len(rows))):
+        sign = 1
+        for i in range(len(order)):
+            for j in range(i):
+                if order[j] > order[i]:
+                    sign = -sign
+        product = Fraction(sign)
+        for i, j in enumerate(order):
+            product *= rows[i][j]
+        value += product
+    return value
