@@ -11,26 +11,45 @@ def next_clockwise(turns):
     return {dart: turn[(at + 1) % len(turn)] for turn in turns for at, dart in enumerate(turn)}
 
 
-def left_face(net, dart):
-    """Returns the tuple of the darts, from this one on, that the walk of the face to its left goes over."""
+def next_in_disc(net):
+    """Returns a dict with the next dart clockwise for each dart, or None where the rim comes next."""
     rim, turns, _ = net
     ahead = next_clockwise(turns)
     for turn in turns[:rim]:
         if turn:
             ahead[turn[-1]] = None
+    return ahead
+
+
+def walk_left(ahead, dart):
+    """Returns the list of the darts of left_face, for the dict of next_in_disc."""
     walk = [dart]
     step = ahead[other_dart(dart)]
     while step is not None and step != dart:
         walk.append(step)
         step = ahead[other_dart(step)]
-    return tuple(walk)
+    return walk
+
+
+def comes_back(ahead, walk):
+    """Returns True if a walk of walk_left came back to the dart it began with, False if it came to the rim."""
+    return ahead[other_dart(walk[-1])] is not None
+
+
+def left_face(net, dart):
+    """Returns the tuple of the darts, from this one on, that the walk of the face to its left goes over."""
+    return tuple(walk_left(next_in_disc(net), dart))
+
+
+def homes_of(net):
+    """Returns a dict with the node of each dart."""
+    return {dart: node for node, turn in enumerate(net[1], start=1) for dart in turn}
 
 
 def ends_of(net):
     """Returns a list with the pair of the nodes of the first and second dart of each edge."""
-    _, turns, amounts = net
-    home = {dart: node for node, turn in enumerate(turns, start=1) for dart in turn}
-    return [(home[2 * edge], home[2 * edge + 1]) for edge in range(len(amounts))]
+    home = homes_of(net)
+    return [(home[2 * edge], home[2 * edge + 1]) for edge in range(len(net[2]))]
 
 
 def joined_with(net, starts):

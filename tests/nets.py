@@ -1,5 +1,6 @@
 """Drawings for the tests, and reckonings that use nothing of the program."""
 
+import math
 import random
 from fractions import Fraction
 from itertools import permutations
@@ -142,6 +143,99 @@ def grown(rim, edges, seed):
     for _ in range(edges):
         growing.grow()
     return growing.net()
+
+
+def dense(rim, inner, edges, seed):
+    """A drawing with these many inner nodes and up to these many edges, with neither loops nor parallel edges."""
+    growing = Growing(rim, seed)
+    chance = growing.chance
+    for _ in range(inner):
+        first = 2 * len(growing.amounts)
+        node, place = chance.choice(chance.choice(growing.corners()))
+        growing.turns[node].insert(place, first)
+        growing.turns.append([first + 1])
+        growing.amounts.append(growing.amount())
+    while len(growing.amounts) < edges:
+        home = {dart: node for node, turn in enumerate(growing.turns) for dart in turn}
+        joined = {frozenset((home[dart], home[dart ^ 1])) for dart in home}
+        options = [
+            (one, other)
+            for face in growing.corners()
+            for one in face
+            for other in face
+            if one[0] != other[0] and frozenset((one[0], other[0])) not in joined
+        ]
+        if not options:
+            break
+        # Nodes of one or two darts are filled up first, since those make the net smaller too easily.
+        weights = [1 / (1 + len(growing.turns[a[0]]) * len(growing.turns[b[0]])) ** 2 for a, b in options]
+        one, other = chance.choices(options, weights)[0]
+        darts = [2 * len(growing.amounts), 2 * len(growing.amounts) + 1]
+        chance.shuffle(darts)
+        growing.join(one, other, darts)
+        growing.amounts.append(growing.amount())
+    return growing.net()
+
+
+def renamed(net, seed):
+    """The same drawing with other numbers of inner nodes and edges, darts changed about, inner turns begun elsewhere."""
+    rim, turns, amounts = net
+    chance = random.Random(seed)
+    new_edge = list(range(len(amounts)))
+    chance.shuffle(new_edge)
+    name = {}
+    for edge, new in enumerate(new_edge):
+        side = chance.randrange(2)
+        name[2 * edge], name[2 * edge + 1] = 2 * new + side, 2 * new + 1 - side
+    inner = []
+    for turn in turns[rim:]:
+        at = chance.randrange(len(turn))
+        inner.append(turn[at:] + turn[:at])
+    chance.shuffle(inner)
+    new_turns = tuple(tuple(name[dart] for dart in turn) for turn in list(turns[:rim]) + inner)
+    new_amounts = [None] * len(amounts)
+    for edge, new in enumerate(new_edge):
+        new_amounts[new] = amounts[edge]
+    return (rim, new_turns, tuple(new_amounts))
+
+
+def drawn(rim, points, edges):
+    """The drawing with its nodes at points and straight edges between them, the rim nodes around the point (0, 0)."""
+    angles = {}
+    for edge, pair in enumerate(edges):
+        for side, (one, other) in enumerate((pair, pair[::-1])):
+            (x, y), (far_x, far_y) = points[one], points[other]
+            outward = math.atan2(y, x) if one < rim else 0
+            angles.setdefault(one, []).append(
+                ((outward - math.atan2(far_y - y, far_x - x)) % (2 * math.pi), 2 * edge + side)
+            )
+    turns = tuple(tuple(dart for _, dart in sorted(angles.get(node, []))) for node in range(len(points)))
+    return (rim, turns, tuple((1 + edge % 5, 1) for edge in range(len(edges))))
+
+
+def around_middle(radius, *degrees):
+    return [(radius * math.cos(math.radians(at)), radius * math.sin(math.radians(at))) for at in degrees]
+
+
+def octahedron(rim):
+    """Twelve edges; one to three of the nodes of the outer triangle are rim nodes."""
+    points = around_middle(9, 90, -30, -150) + around_middle(1, 30, -90, 150)
+    edges = [(0, 1), (1, 2), (2, 0), (3, 4), (4, 5), (5, 3)]
+    edges += [(0, 5), (0, 3), (1, 3), (1, 4), (2, 4), (2, 5)]
+    return drawn(rim, points, edges)
+
+
+def icosahedron(rim):
+    """Thirty edges; one to three of the nodes of the outer triangle are rim nodes."""
+    points = around_middle(20, 90, -30, -150) + around_middle(3, 90, 30, -30, -90, -150, 150)
+    points += around_middle(1, 30, -90, 150)
+    edges = []
+    for k in range(3):
+        edges += [(k, (k + 1) % 3), (9 + k, 9 + (k + 1) % 3)]
+        edges += [(k, 3 + (2 * k + step) % 6) for step in (-1, 0, 1)]
+        edges += [(9 + k, 3 + (2 * k + step) % 6) for step in (0, 1, 2)]
+    edges += [(3 + k, 3 + (k + 1) % 6) for k in range(6)]
+    return drawn(rim, points, edges)
 
 
 def crosses(net):

@@ -32,6 +32,13 @@ FUNCTIONS = {
         "resistance": "net first second",
     },
     "linear": {"determinant": "rows", "solved": "rows right"},
+    "trees": {"forest_weight": "net", "tree_weight": "net"},
+    "minors": {"circular_pairs": "rim", "minor": "table heads tails", "refusal": "table"},
+    "paths": {"ways": "net heads tails"},
+    "numbering": {"numbered": "net"},
+    "moves": {"apply_move": "net move", "apply_moves": "net moves", "leads": "net moves goal"},
+    "strands": {"strand_ends": "net", "strand_edges": "net", "has_fewest": "net"},
+    "reduction": {"fewest": "net"},
 }
 
 
