@@ -45,6 +45,15 @@ def grid(wide, high):
     return (2 * wide, tuple(turns), ones(len(edges)))
 
 
+def subdivided(net):
+    """The net with a new inner node in the middle of each edge."""
+    rim, turns, amounts = net
+    count = len(amounts)
+    new = [tuple(2 * count + dart if dart % 2 else dart for dart in turn) for turn in turns]
+    middles = [(2 * edge + 1, 2 * count + 2 * edge) for edge in range(count)]
+    return (rim, tuple(new + middles), amounts + amounts)
+
+
 class Ways(unittest.TestCase):
     def check_ways(self, net, heads, tails, found):
         """Holds the ways against the words of point [17]."""
@@ -79,6 +88,7 @@ class Ways(unittest.TestCase):
     def test_nets_of_this_file_are_drawings(self):
         for net in (SQUARE, FORK, grid(2, 2), grid(3, 3), grid(3, 4)):
             self.assertIsNone(check_net(net))
+            self.assertIsNone(check_net(subdivided(net)))
 
     def test_by_hand(self):
         self.assertEqual(ways(STAR, (1,), (3,)), ((1, 4, 3),))
@@ -111,7 +121,8 @@ class Ways(unittest.TestCase):
     def test_ways_that_are_given_up(self):
         # The first way must leave room for the others, whichever edge is looked at first.
         for seed in range(20):
-            for net in (SQUARE, FORK, grid(2, 2), grid(3, 3), grid(3, 4)):
+            nets = [SQUARE, FORK, grid(2, 2), grid(3, 3), grid(3, 4)]
+            for net in nets + [subdivided(net) for net in nets]:
                 other = renamed(net, seed)
                 half = net[0] // 2
                 heads = tuple(range(1, half + 1))
@@ -122,6 +133,9 @@ class Ways(unittest.TestCase):
 
     def test_grown_nets(self):
         counts = [self.check_all_pairs(grown(1 + seed % 7, 2 + seed % 30, seed)) for seed in range(70)]
+        counts += [
+            self.check_all_pairs(subdivided(dense(1 + seed % 7, 3 + seed % 9, 9 + seed % 20, seed))) for seed in range(30)
+        ]
         counts += [self.check_all_pairs(dense(1 + seed % 7, 3 + seed % 9, 9 + seed % 20, seed)) for seed in range(70)]
         self.assertGreater(sum(none for none, _ in counts), 300)
         self.assertGreater(sum(some for _, some in counts), 300)
