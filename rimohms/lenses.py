@@ -29,9 +29,14 @@ def shrinking_move(net):
     # In a smallest lens no two strands cross twice; it has a triangle at its border (Steinitz).
     for cell in [cell for wall in walls for cell in sides[wall]]:
         if cell in cells and side_count(sides, cell) == 3:
-            kind, number = cell
-            return ("star", number) if kind == "node" else ("triangle", number)
+            return cell_move(cell)
     return None
+
+
+def cell_move(cell):
+    """Returns the move star or triangle for a cell with three walls that does not come to the rim."""
+    kind, number = cell
+    return ("star", number) if kind == "node" else ("triangle", number)
 
 
 def sides_of(net):

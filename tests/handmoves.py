@@ -1,5 +1,6 @@
 """The moves of point [20], done by the tests themselves, word by word, on nodes and edges that keep their names."""
 
+import random
 from fractions import Fraction
 
 
@@ -192,6 +193,16 @@ def hand_move(net, move):
     return board.net()
 
 
+def followed(net, moves):
+    """The net after moves, or None if one of them does not fit or makes an edge more."""
+    for move in moves:
+        after = hand_move(net, move)
+        if after is None or len(after[2]) > len(net[2]):
+            return None
+        net = after
+    return net
+
+
 def all_moves(net):
     """All moves with numbers that the net has, and with numbers below 0 and just beyond the last ones."""
     edges, nodes = len(net[2]), len(net[1])
@@ -202,3 +213,17 @@ def all_moves(net):
     moves += [("parallel", one, other) for one in numbers for other in numbers]
     moves += [("triangle", dart) for dart in range(-3, 2 * edges + 3)]
     return moves
+
+
+def scrambled(net, seed, steps):
+    """The net after stars and triangles."""
+    chance = random.Random(seed)
+    for _ in range(steps):
+        moves = [move for move in all_moves(net) if move[0] in ("star", "triangle")]
+        chance.shuffle(moves)
+        for move in moves:
+            after = hand_move(net, move)
+            if after is not None:
+                net = after
+                break
+    return net

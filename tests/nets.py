@@ -178,7 +178,7 @@ def dense(rim, inner, edges, seed):
 
 
 def renamed(net, seed):
-    """The same drawing with other numbers of inner nodes and edges, darts changed about, inner turns begun elsewhere."""
+    """A grid of inner nodes with the rim nodes at its upper border: more edges than needed, but ways for all pairs."""
     rim, turns, amounts = net
     chance = random.Random(seed)
     new_edge = list(range(len(amounts)))
@@ -236,6 +236,107 @@ def icosahedron(rim):
         edges += [(9 + k, 3 + (2 * k + step) % 6) for step in (0, 1, 2)]
     edges += [(3 + k, 3 + (k + 1) % 6) for k in range(6)]
     return drawn(rim, points, edges)
+
+
+def all_joined(rim):
+    """A grid of inner nodes with the rim nodes at its upper border: too many edges, but disjoint ways for all pairs."""
+    edges, around = [], {}
+
+    def join(one, other, side, far_side):
+        around.setdefault(one, {})[side] = 2 * len(edges)
+        around.setdefault(other, {})[far_side] = 2 * len(edges) + 1
+        edges.append((one, other))
+
+    for x in range(rim):
+        join(("rim", x), (x, 0), "down", "up")
+        for y in range(rim - 1):
+            if x + 1 < rim:
+                join((x, y), (x + 1, y), "right", "left")
+            if y + 1 < rim - 1:
+                join((x, y), (x, y + 1), "down", "up")
+    nodes = [("rim", x) for x in range(rim)] + [node for node in around if node[0] != "rim"]
+    sides = ("up", "right", "down", "left")
+    turns = tuple(tuple(around[node][side] for side in sides if side in around[node]) for node in nodes)
+    return (rim, turns, tuple((k + 1, 1) for k in range(len(edges))))
+
+
+def ladder(sides, rungs):
+    """A ladder of two rim nodes: resistors along one side, from rim node 1 on, and a rung behind each of them.
+
+    The rungs are joined with each other, and with rim node 2, on the other side. The values are resistances.
+    """
+    count = len(sides)
+    inner = []
+    for k in range(count):
+        # The rung goes to the other side, which lies clockwise of the way on.
+        further = [4 * (k + 1)] if k + 1 < count else []
+        inner.append((4 * k + 1, *further, 4 * k + 2))
+    turns = ((0,), tuple(4 * k + 3 for k in range(count)), *inner)
+    amounts = [1 / Fraction(value) for pair in zip(sides, rungs) for value in pair]
+    return (2, turns, tuple(pairs_of(amounts)))
+
+
+def inserted(turns, node, place, darts):
+    """The turns with darts put into that of a node."""
+    turns = list(turns)
+    turn = turns[node - 1]
+    turns[node - 1] = turn[:place] + tuple(darts) + turn[place:]
+    return turns
+
+
+def split_in_series(net, dart, share):
+    """Another net with the same table: a new inner node on the edge of a dart, which parts its resistance."""
+    rim, turns, amounts = net
+    new = 2 * len(amounts)
+    whole = Fraction(*amounts[dart // 2])
+    changed = [tuple(new if step == dart else step for step in turn) for turn in turns]
+    changed.append((dart, new + 1))
+    kept, further = pairs_of([whole / share, whole / (1 - share)])
+    return (rim, tuple(changed), amounts[:dart // 2] + (kept,) + amounts[dart // 2 + 1:] + (further,))
+
+
+def split_side_by_side(net, edge, share):
+    """Another net with the same table: a new edge beside an edge, which parts its amount."""
+    rim, turns, amounts = net
+    new = 2 * len(amounts)
+    whole = Fraction(*amounts[edge])
+    name = {2 * edge: (2 * edge, new), 2 * edge + 1: (new + 1, 2 * edge + 1)}
+    changed = tuple(tuple(new for dart in turn for new in name.get(dart, (dart,))) for turn in turns)
+    kept, beside = pairs_of([whole * share, whole * (1 - share)])
+    return (rim, changed, amounts[:edge] + (kept,) + amounts[edge + 1:] + (beside,))
+
+
+def with_loop(net, node, place, amount):
+    """Another net with the same table: with a loop at a node."""
+    rim, turns, amounts = net
+    new = 2 * len(amounts)
+    return (rim, tuple(inserted(turns, node, place, (new, new + 1))), amounts + (amount,))
+
+
+def with_twig(net, node, place, amount):
+    """Another net with the same table: with a new inner node that one edge joins with a node."""
+    rim, turns, amounts = net
+    new = 2 * len(amounts)
+    return (rim, tuple(inserted(turns, node, place, (new,)) + [(new + 1,)]), amounts + (amount,))
+
+
+def widened(net, seed, edges):
+    """Another net with the same table, with so many edges more."""
+    chance = random.Random(seed)
+    for _ in range(edges):
+        kind = chance.randrange(4)
+        share = Fraction(chance.randint(1, 8), 9)
+        node = chance.randint(1, len(net[1]))
+        place = chance.randint(0, len(net[1][node - 1]))
+        if kind == 0 and net[2]:
+            net = split_in_series(net, chance.randrange(2 * len(net[2])), share)
+        elif kind == 1 and net[2]:
+            net = split_side_by_side(net, chance.randrange(len(net[2])), share)
+        elif kind == 2:
+            net = with_loop(net, node, place, (chance.randint(1, 9), 1))
+        else:
+            net = with_twig(net, node, place, (1, chance.randint(1, 9)))
+    return net
 
 
 def crosses(net):
@@ -319,3 +420,8 @@ def determinant_by_orders(rows):
             product *= rows[i][j]
         value += product
     return value
+
+
+def interleaved(ends):
+    """How many pairs of strands must cross, by their places."""
+    return sum(a < c < b < d for a, b in ends for c, d in ends)

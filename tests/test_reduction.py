@@ -1,16 +1,17 @@
-import random
 import time
 import unittest
 
-from handmoves import all_moves, hand_move
+from handmoves import all_moves, followed, hand_move, scrambled
 from nets import (
     DRAWINGS,
     STAR,
+    all_joined,
     chain_net,
     dense,
     grown,
     home_of,
     icosahedron,
+    interleaved,
     octahedron,
     ones,
     renamed,
@@ -22,10 +23,6 @@ from rimohms.strands import has_fewest, strand_edges, strand_ends
 
 SAVING = ("loop", "loose", "series", "parallel")
 TWIGS = (1, ((0, 3, 4), (1,), (2,), (5,)), ones(3))
-
-
-def interleaved(ends):
-    return sum(a < c < b < d for a, b in ends for c, d in ends)
 
 
 def saved_at_once(net):
@@ -48,31 +45,11 @@ def is_pair(ends, one, other):
     return 0 <= one < other < len(ends) and ends[one] == ends[other]
 
 
-def scrambled(net, seed, steps):
-    """The net after stars and triangles."""
-    chance = random.Random(seed)
-    for _ in range(steps):
-        moves = [move for move in all_moves(net) if move[0] in ("star", "triangle")]
-        chance.shuffle(moves)
-        for move in moves:
-            after = hand_move(net, move)
-            if after is not None:
-                net = after
-                break
-    return net
-
-
 class Fewest(unittest.TestCase):
     def check(self, net):
         moves, goal = fewest(net)
         self.assertIs(type(moves), tuple)
-        reached, count = net, len(net[2])
-        for move in moves:
-            reached = hand_move(reached, move)
-            self.assertIsNotNone(reached, (net, moves))
-            self.assertLessEqual(len(reached[2]), count)
-            count = len(reached[2])
-        self.assertEqual(reached, goal)
+        self.assertEqual(followed(net, moves), goal)
         self.assertIsNone(check_net(goal))
         self.assertIs(has_fewest(goal), True)
         self.assertEqual(table_by_hand(goal), table_by_hand(net))
@@ -171,28 +148,6 @@ class Fewest(unittest.TestCase):
             fewest(dense(1 + seed % 7, 12, 30, 500 + seed))
             fewest(grown(1 + seed % 7, 30, 500 + seed))
         self.assertLess(time.monotonic() - started, 20)
-
-
-def all_joined(rim):
-    """A grid of inner nodes, as high as wide, with the rim nodes at its upper border: too many edges, but ways for all."""
-    edges, around = [], {}
-
-    def join(one, other, side, far_side):
-        around.setdefault(one, {})[side] = 2 * len(edges)
-        around.setdefault(other, {})[far_side] = 2 * len(edges) + 1
-        edges.append((one, other))
-
-    for x in range(rim):
-        join(("rim", x), (x, 0), "down", "up")
-        for y in range(rim - 1):
-            if x + 1 < rim:
-                join((x, y), (x + 1, y), "right", "left")
-            if y + 1 < rim - 1:
-                join((x, y), (x, y + 1), "down", "up")
-    nodes = [("rim", x) for x in range(rim)] + [node for node in around if node[0] != "rim"]
-    sides = ("up", "right", "down", "left")
-    turns = tuple(tuple(around[node][side] for side in sides if side in around[node]) for node in nodes)
-    return (rim, turns, tuple((k + 1, 1) for k in range(len(edges))))
 
 
 if __name__ == "__main__":

@@ -1,6 +1,6 @@
 import unittest
 
-from nets import DRAWINGS, SERIES, STAR, chain_net, dense, grown, icosahedron, octahedron, ones
+from nets import DRAWINGS, SERIES, STAR, chain_net, dense, grown, icosahedron, interleaved, octahedron, ones
 from rimohms.strands import has_fewest, strand_edges, strand_ends
 
 TRIANGLE = DRAWINGS["triangle"]
@@ -69,11 +69,6 @@ def canonical(edges):
     edges = tuple(edges)
     ways = [way[at:] + way[:at] for way in (edges, edges[::-1]) for at in range(len(edges))]
     return min(ways)
-
-
-def interleaved(ends):
-    """How many pairs of strands must cross, by their places."""
-    return sum(a < c < b < d for a, b in ends for c, d in ends)
 
 
 def samples():
