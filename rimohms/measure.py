@@ -7,9 +7,13 @@ from rimohms.web import thinned, web_of
 
 def table_of(net):
     """Returns the table of a net."""
-    nodes = rim_nodes(net)
-    _, web = thinned(web_of(net), nodes)
-    return tuple([tuple([entry(web[node], node, other) for other in nodes]) for node in nodes])
+    return table_in(web_of(net), rim_nodes(net))
+
+
+def table_in(web, nodes):
+    """Returns the table that a web has for a list of its nodes, while nothing touches the others."""
+    _, rest = thinned(web, nodes)
+    return tuple([tuple([entry(rest[node], node, other) for other in nodes]) for node in nodes])
 
 
 def entry(around, node, other):

@@ -130,13 +130,14 @@ def apply_move(net, move):
 def check_edge(net, edge):
     """Raises MoveError if the net has no edge of this number."""
     if edge < 0 or edge >= len(net[2]):
-        raise MoveError(f"there is no edge {edge}")
+        # A number that the net does not have may be longer than Python shows numbers.
+        raise MoveError("there is no edge of this number")
 
 
 def inner_turn(net, node, many):
     """Returns the turn of an inner node with this many darts. Raises MoveError if the node is no such node."""
     if node <= net[0] or node > len(net[1]):
-        raise MoveError(f"there is no inner node {node}")
+        raise MoveError("there is no inner node of this number")
     turn = net[1][node - 1]
     if len(turn) != many:
         raise MoveError(f"node {node} has not {many} darts")
@@ -146,7 +147,7 @@ def inner_turn(net, node, many):
 def triangle_face(net, dart):
     """Returns the three darts of the face to the left of a dart. Raises MoveError if it is no triangle."""
     if dart < 0 or dart >= 2 * len(net[2]):
-        raise MoveError(f"there is no dart {dart}")
+        raise MoveError("there is no dart of this number")
     ahead = next_in_disc(net)
     walk = walk_left(ahead, dart)
     if len(walk) != 3 or not comes_back(ahead, walk):

@@ -12,8 +12,14 @@ from rimohms.ratio import ZERO, over, plus, times, total
 
 def web_of(net):
     """Returns the web of a net."""
-    web = {node: {} for node in range(1, len(net[1]) + 1)}
-    for (one, other), amount in zip(ends_of(net), net[2]):
+    joints = [(one, other, amount) for (one, other), amount in zip(ends_of(net), net[2])]
+    return web_from(list(range(1, len(net[1]) + 1)), joints)
+
+
+def web_from(nodes, joints):
+    """Returns the web of a list of nodes and a list of joints (node, node, amount), with amounts above 0."""
+    web = {node: {} for node in nodes}
+    for one, other, amount in joints:
         # A loop carries no current, since it has one voltage at both ends.
         if one != other:
             joint = plus(web[one].get(other, ZERO), amount)

@@ -6,6 +6,8 @@ import inspect
 import unittest
 from pathlib import Path
 
+from rimohms.lab import Lab
+
 PACKAGE = Path(__file__).resolve().parent.parent / "rimohms"
 
 # module: {function: its arguments}
@@ -39,6 +41,26 @@ FUNCTIONS = {
     "moves": {"apply_move": "net move", "apply_moves": "net moves", "leads": "net moves goal"},
     "strands": {"strand_ends": "net", "strand_edges": "net", "has_fewest": "net"},
     "reduction": {"fewest": "net"},
+    "standard": {"standard": "net"},
+    "shapes": {"amounts_for": "net table"},
+    "rebuild": {"greatest_edge": "table i j", "greatest_spike": "table i", "rebuild": "table"},
+    "compare": {"alike": "first second", "judge": "first second answer"},
+    "edits": {"changed_table": "table net edge amount", "merged_table": "pieces kept"},
+    "views": {"turned": "net", "mirrored": "net", "dual": "net"},
+}
+
+# The methods of Lab and their arguments behind self.
+LAB = {
+    "read": "name text",
+    "net": "name",
+    "text": "name",
+    "table": "name",
+    "move": "name move",
+    "change": "name edge amount",
+    "shrink": "name",
+    "same": "name second",
+    "merge": "name pieces kept",
+    "names": "",
 }
 
 
@@ -50,6 +72,13 @@ class Interface(unittest.TestCase):
                 function = getattr(module, name)
                 self.assertEqual(function.__module__, f"rimohms.{place}")
                 self.assertEqual(list(inspect.signature(function).parameters), arguments.split())
+
+    def test_lab(self):
+        self.assertEqual(Lab.__module__, "rimohms.lab")
+        self.assertEqual(list(inspect.signature(Lab).parameters), [])
+        for name, arguments in LAB.items():
+            method = vars(Lab)[name]
+            self.assertEqual(list(inspect.signature(method).parameters), ["self", *arguments.split()])
 
 
 class Form(unittest.TestCase):
